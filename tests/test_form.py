@@ -28,6 +28,15 @@ BAD_WORDS = re.compile(
     r"\b(type|typing|typing_extensions|enum|Enum|IntEnum|StrEnum|Flag|IntFlag|Generic|Protocol|ABC|ABCMeta|namedtuple"
     r"|NamedTuple|TypedDict|TYPE_CHECKING|abstractmethod)\b|dataclass|overload|contextmanager")
 
+# Names of Python's own values that a program's own methods, or values of its objects, may bear all the same.
+FREE_METHODS = set(OWN_METHODS) | {"add", "discard"}
+FREE_VALUES = {"count", "index", "title", "find", "get", "join", "lower", "upper", "split", "strip", "copy", "add"}
+TAKEN = {name for kind in (str, int, list, dict, set, bytes) for name in dir(kind)} | {"args"}
+WALKED = ("zip", "enumerate", "reversed", "range", "items", "keys", "values")
+WALKERS = ("list", "tuple", "dict", "sorted", "sum", "any", "all", "enumerate", "zip", "min", "max", "join")
+KEYWORDS = {"sorted": ("key", "reverse"), "min": ("key", "default"), "max": ("key", "default"), "sum": ("start",),
+            "enumerate": ("start",), "zip": ("strict",)}
+
 
 def files():
     return sorted(name for name in os.listdir(PACKAGE) if name != "__pycache__")
@@ -57,6 +66,17 @@ def is_plain(node):
 
 def is_docstring(node):
     return isinstance(node, ast.Expr) and isinstance(node.value, ast.Constant) and isinstance(node.value.value, str)
+
+
+def called(node):
+    """The name by which something is called."""
+    return getattr(node.func, "id", getattr(node.func, "attr", ""))
+
+
+def values_given(tree):
+    """The names of the values that objects are given."""
+    return [target for node in ast.walk(tree) if isinstance(node, ast.Assign) for target in node.targets
+            if isinstance(target, ast.Attribute)]
 
 
 class Files(unittest.TestCase):
@@ -198,6 +218,47 @@ class Values(unittest.TestCase):
         for where, node in nodes(ast.Call):
             if isinstance(node.func, ast.Attribute):
                 self.assertTrue(node.func.attr in OWN_METHODS or node.func.attr in own, where)
+
+    def test_keywords(self):
+        own = {node.name for _, node in nodes(ast.FunctionDef, ast.ClassDef)}
+        for where, node in nodes(ast.Call):
+            for keyword in node.keywords:
+                if called(node) not in own:
+                    self.assertIn(keyword.arg, KEYWORDS.get(called(node), ()), where)
+
+    def test_walked_at_once(self):
+        for name, tree in trees():
+            walked = [node.iter for node in ast.walk(tree) if isinstance(node, (ast.For, ast.comprehension))]
+            walked += [node.args[0] for node in ast.walk(tree)
+                       if isinstance(node, ast.Call) and called(node) in WALKERS and node.args]
+            for node in ast.walk(tree):
+                if isinstance(node, ast.Call) and called(node) in WALKED:
+                    self.assertIn(node, walked, f"{name}:{node.lineno}")
+
+
+class Objects(unittest.TestCase):
+    def test_methods_and_values_are_apart(self):
+        methods = {node.name for _, kind in nodes(ast.ClassDef) for node in kind.body
+                   if isinstance(node, ast.FunctionDef)}
+        values = {target.attr for _, tree in trees() for target in values_given(tree)}
+        self.assertEqual(methods & values, set())
+        self.assertEqual(((methods - set(DOUBLE)) & TAKEN) - FREE_METHODS, set())
+        self.assertEqual((values & TAKEN) - FREE_VALUES, set())
+
+    def test_no_method_stands_twice(self):
+        for where, kind in nodes(ast.ClassDef):
+            names = [node.name for node in kind.body if isinstance(node, ast.FunctionDef)]
+            self.assertEqual(len(names), len(set(names)), where)
+
+    def test_locals_are_not_called_like_classes_and_imports(self):
+        for name, tree in trees():
+            taken = {alias.asname or alias.name for node in tree.body if isinstance(node, ast.ImportFrom)
+                     for alias in node.names} | {node.name for node in tree.body if isinstance(node, ast.ClassDef)}
+            for node in ast.walk(tree):
+                if isinstance(node, ast.arg):
+                    self.assertNotIn(node.arg, taken, f"{name}:{node.lineno}")
+                if isinstance(node, ast.Name) and isinstance(node.ctx, ast.Store):
+                    self.assertNotIn(node.id, taken, f"{name}:{node.lineno}")
 
 
 if __name__ == "__main__":
