@@ -1,5 +1,9 @@
-"""Makes programs of all sorts, the same for the same seed, and changes them or tells their texts for the tests."""
+"""Makes programs of all sorts, the same for the same seed, and changes them or tells their texts for the tests; and
+values of each kind in a world."""
 import random
+
+from grassnake.orders import class_of, order_of
+from grassnake.store import function, giver, known, new_count, new_method, new_object, new_view
 
 NAMES = ("a", "b", "c", "x", "y", "go", "Snake_2", "abcdefghijkl")
 TEXTS = ("", " ", "a", "# no", "(", "it's", "~" * 40, "x = 1:")
@@ -8,6 +12,12 @@ COMPARES = ("<", "<=", ">", ">=", "==", "!=")
 SIGNS = COMPARES + ("+", "-", "*", "//", "&", "|")
 SIMPLE = ("do", "set", "put", "more", "pass", "break", "continue", "return", "raise", "global", "nonlocal", "yield")
 BLOCKS = ("def", "class", "if", "while", "for", "try")
+# The given names; FAULTS are the classes right under Fault.
+FUNCTIONS = ("say", "take", "isa", "elder", "count", "go", "throw", "shut")
+FAULTS = ("NameFault", "KindFault", "NoughtFault", "GreatFault", "FieldFault", "OrderFault", "EndFault", "ShutFault",
+          "DeepFault")
+ALL_FAULTS = ("Fault", "UnboundFault") + FAULTS
+GIVEN = FUNCTIONS + ("Thing",) + ALL_FAULTS
 
 
 class Maker:
@@ -152,3 +162,34 @@ def changed_within(statement, number, way):
         return ("try", blocks[0], catches) + tuple(blocks[-2:])
     place = {"def": 3, "class": 3, "if": 2, "while": 2, "for": 3}[statement[0]] + number
     return statement[:place] + (without(statement[place], way),) + statement[place + 1:]
+
+
+def class_under(world, name, elders=(), fields=None):
+    """A class with these elders, names of given classes or classes themselves."""
+    values = tuple(known(world, elder) if isinstance(elder, str) else elder for elder in elders)
+    answer = order_of(world, values)
+    if answer[0] != "value":
+        raise AssertionError(answer)
+    return class_of(world, name, answer[1], fields or {})
+
+
+def plain_function(world, name):
+    return function(world, name, 1, (), "code", "around", False)
+
+
+def each_kind(world):
+    """One value of each kind and sort, by a word for it."""
+    snake, bite = class_under(world, "Snake"), class_under(world, "Bite", ("NameFault",))
+    grass, fang = new_object(world, snake), new_object(world, bite)
+    def_function = plain_function(world, "f")
+    return {
+        "number": ("number", 7), "nought": ("number", 0), "below": ("number", -7), "text": ("text", "adder"),
+        "empty": ("text", ""), "true": ("truth", True), "false": ("truth", False), "none": ("none",),
+        "function": def_function, "giving function": function(world, "g", 0, (), (), (), True),
+        "given function": known(world, "say"), "method": new_method(world, def_function, grass),
+        "class": snake, "fault class": bite, "Thing": known(world, "Thing"), "Fault": known(world, "Fault"),
+        "EndFault": known(world, "EndFault"), "object": grass, "fault": fang,
+        "given fault": new_object(world, known(world, "EndFault")), "giver": giver(world, "g", "frame"),
+        "count": new_count(world, 3), "view": new_view(world, snake, grass),
+        "fault view": new_view(world, bite, fang),
+    }
